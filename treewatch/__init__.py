@@ -1,0 +1,1 @@
+"""Treewatch: trees of files, and what was changed in them."""
