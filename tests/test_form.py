@@ -23,6 +23,13 @@ OWN_NAMES = set("""
     ArithmeticError OverflowError RuntimeError NotImplementedError AttributeError StopIteration
 """.split())
 
+METHODS = set("""
+    append clear copy count endswith extend find get index insert isalnum isalpha isdigit islower isspace isupper items
+    join keys ljust lower lstrip partition pop remove replace reverse rfind rjust rpartition rsplit rstrip setdefault
+    split splitlines startswith strip update upper values zfill bit_length
+""".split())
+TWO_UNDERSCORES = {"__init__", "__eq__", "__repr__", "__str__", "__len__"}
+
 WORDS = re.compile(
     r"\b(type|typing|typing_extensions|enum|Enum|IntEnum|StrEnum|Flag|IntFlag|Generic|Protocol|ABC|ABCMeta"
     r"|namedtuple|NamedTuple|TypedDict|TYPE_CHECKING|abstractmethod)\b|dataclass|overload|contextmanager"
@@ -90,3 +97,42 @@ class Form(unittest.TestCase):
                 self.assertTrue(node.module.startswith("treewatch."), where)
                 self.assertTrue((PACKAGE.parent / (node.module.replace(".", "/") + ".py")).is_file(), where)
                 self.assertNotIn("*", [alias.name for alias in node.names], where)
+
+    def test_functions_and_their_locals(self):
+        for path, text in self.files():
+            top = ast.parse(text).body
+            own = {node.name for node in top if isinstance(node, ast.ClassDef)}
+            own |= {alias.name for node in top if isinstance(node, ast.ImportFrom) for alias in node.names}
+            for node in ast.walk(ast.parse(text)):
+                where = f"{path.name}:{getattr(node, 'lineno', 0)}"
+                if isinstance(node, ast.arguments):
+                    self.assertEqual((node.vararg, node.kwarg, node.kwonlyargs), (None, None, []), where)
+                if isinstance(node, ast.arg):
+                    self.assertIsNone(node.annotation, where)
+                    self.assertNotIn(node.arg, own, where)
+                if isinstance(node, ast.Name) and isinstance(node.ctx, ast.Store):
+                    self.assertNotIn(node.id, own, where)
+
+    def test_classes(self):
+        methods, values = set(), set()
+        for where, node in self.nodes():
+            if isinstance(node, ast.ClassDef):
+                self.assertLessEqual(len(node.bases), 1, where)
+                for part in node.body:
+                    self.assertIsInstance(part, (ast.FunctionDef, ast.Pass), where)
+                methods |= {part.name for part in node.body if isinstance(part, ast.FunctionDef)}
+            if isinstance(node, ast.Attribute) and isinstance(node.ctx, ast.Store):
+                values.add(node.attr)
+        self.assertFalse(methods & values)
+        self.assertFalse({name for name in values if name.startswith("_")})
+        self.assertLessEqual({name for name in methods if name.startswith("_")}, TWO_UNDERSCORES)
+        for where, node in self.nodes():
+            if isinstance(node, ast.Attribute):
+                self.assertIn(node.attr, METHODS | methods | values, where)
+
+    def test_sets_are_not_kept(self):
+        for where, node in self.nodes():
+            if isinstance(node, ast.Assign):
+                self.assertNotRegex(ast.unparse(node.value), r"^(frozen)?set\(", where)
+            if isinstance(node, (ast.For, ast.comprehension)):
+                self.assertNotRegex(ast.unparse(node.iter), r"^(frozen)?set\(", where)
