@@ -30,10 +30,23 @@ METHODS = set("""
 """.split())
 TWO_UNDERSCORES = {"__init__", "__eq__", "__repr__", "__str__", "__len__"}
 
+WALKED_AT_ONCE = {"zip", "enumerate", "reversed", "range", "items", "keys", "values"}
+WALKERS = {"list", "tuple", "dict", "sorted", "sum", "any", "all", "enumerate", "zip", "min", "max", "join"}
+KEYWORDS = {
+    "sorted": {"key", "reverse"}, "min": {"key", "default"}, "max": {"key", "default"}, "sum": {"start"},
+    "enumerate": {"start"}, "zip": {"strict"},
+}
+
 WORDS = re.compile(
     r"\b(type|typing|typing_extensions|enum|Enum|IntEnum|StrEnum|Flag|IntFlag|Generic|Protocol|ABC|ABCMeta"
     r"|namedtuple|NamedTuple|TypedDict|TYPE_CHECKING|abstractmethod)\b|dataclass|overload|contextmanager"
 )
+
+
+def called_name(node):
+    if isinstance(node, ast.Call):
+        return getattr(node.func, "id", getattr(node.func, "attr", ""))
+    return ""
 
 
 class Form(unittest.TestCase):
@@ -136,3 +149,76 @@ class Form(unittest.TestCase):
                 self.assertNotRegex(ast.unparse(node.value), r"^(frozen)?set\(", where)
             if isinstance(node, (ast.For, ast.comprehension)):
                 self.assertNotRegex(ast.unparse(node.iter), r"^(frozen)?set\(", where)
+
+    def test_tops_of_files(self):
+        for path, text in self.files():
+            bound = []
+            for node in ast.parse(text).body:
+                where = f"{path.name}:{node.lineno}"
+                if isinstance(node, ast.Expr):
+                    self.assertIsInstance(node.value, ast.Constant, where)
+                elif isinstance(node, ast.Assign):
+                    self.assertIsInstance(node.value, (ast.Constant, ast.Tuple), where)
+                    bound.append(node.targets[0].id)
+                elif isinstance(node, ast.ImportFrom):
+                    bound.extend(alias.name for alias in node.names)
+                    self.assertTrue(all(alias.asname is None for alias in node.names), where)
+                else:
+                    self.assertIsInstance(node, (ast.FunctionDef, ast.ClassDef), where)
+                    bound.append(node.name)
+            self.assertEqual(len(bound), len(set(bound)), path.name)
+
+    def test_names_come_from_the_file_that_defines_them_and_are_used(self):
+        for path, text in self.files():
+            used = {node.id for node in ast.walk(ast.parse(text)) if isinstance(node, ast.Name)}
+            for node in ast.parse(text).body:
+                if isinstance(node, ast.ImportFrom):
+                    source = (PACKAGE.parent / (node.module.replace(".", "/") + ".py")).read_text(encoding="utf-8")
+                    for alias in node.names:
+                        self.assertIn(alias.name, used, path.name)
+                        self.assertRegex(source, rf"(?m)^((def|class) {alias.name}\b|{alias.name} =)", path.name)
+
+    def test_no_two_files_draw_from_one_another(self):
+        drawn = {}
+        for path, text in self.files():
+            drawn["treewatch." + path.stem] = {
+                node.module for node in ast.parse(text).body if isinstance(node, ast.ImportFrom)
+            }
+        while drawn:
+            free = [name for name, sources in drawn.items() if not sources & set(drawn)]
+            self.assertTrue(free, drawn)
+            for name in free:
+                drawn.pop(name)
+
+    def test_walked_at_once(self):
+        for path, text in self.files():
+            walked = []
+            for node in ast.walk(ast.parse(text)):
+                if isinstance(node, (ast.For, ast.comprehension)):
+                    walked.append(node.iter)
+                if called_name(node) in WALKERS:
+                    walked.extend(node.args)
+            for node in ast.walk(ast.parse(text)):
+                if called_name(node) in WALKED_AT_ONCE:
+                    self.assertIn(ast.dump(node), [ast.dump(one) for one in walked], f"{path.name}:{node.lineno}")
+
+    def test_calls_and_errors(self):
+        own = {node.name for _, node in self.nodes() if isinstance(node, ast.ClassDef)}
+        for where, node in self.nodes():
+            if isinstance(node, ast.Call):
+                words = {keyword.arg for keyword in node.keywords}
+                self.assertLessEqual(words, KEYWORDS.get(called_name(node), set()), where)
+            if isinstance(node, ast.ExceptHandler):
+                self.assertIn(ast.unparse(node.type), own | {"KeyError"}, where)
+            if isinstance(node, ast.Raise):
+                self.assertIn(called_name(node.exc), own, where)
+                self.assertRegex(ast.unparse(node.cause) if node.cause else "e", r"^(e|None)$", where)
+
+    def test_texts_and_their_signs(self):
+        for path, text in self.files():
+            self.assertNotIn("%", re.sub(r" % ", "", text), path.name)
+            self.assertNotRegex(text, r"\\[^nt\\\"']", path.name)
+        for where, node in self.nodes():
+            if isinstance(node, ast.FormattedValue):
+                self.assertIsInstance(node.value, ast.Name, where)
+                self.assertIsNone(node.format_spec, where)

@@ -1,12 +1,7 @@
 """Deeds: the four ways to change a tree."""
 
-from treewatch.errors import Inside, Known, NotFile, NotFolder, Taken, TreeError
-from treewatch.trees import TOP, below, by_number, node_of
-
-
-def check_parent(nodes, parent):
-    if parent != TOP and node_of(nodes, parent)[3] is not None:
-        raise NotFolder(f"the node {parent} is a file")
+from treewatch.errors import Inside, Known, NotFile, Taken, TreeError
+from treewatch.trees import below, by_number, check_folder, node_of
 
 
 def check_place(tree, number, parent, name):
@@ -24,7 +19,7 @@ def make(tree, number, parent, name, stamp):
     nodes = by_number(tree)
     if number in nodes:
         raise Known(f"a node has the number {number}")
-    check_parent(nodes, parent)
+    check_folder(nodes, parent)
     check_place(tree, number, parent, name)
     return tuple(sorted(tree + ((number, parent, name, stamp),)))
 
@@ -39,7 +34,7 @@ def write(tree, number, stamp):
 def move(tree, number, parent, name):
     nodes = by_number(tree)
     node = node_of(nodes, number)
-    check_parent(nodes, parent)
+    check_folder(nodes, parent)
     if parent == number or parent in below(tree, number):
         raise Inside(f"the node {parent} is the node {number} or below it")
     check_place(tree, number, parent, name)

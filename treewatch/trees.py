@@ -1,6 +1,6 @@
 """Trees of nodes (number, parent, name, stamp), and the paths in them."""
 
-from treewatch.errors import NoNode
+from treewatch.errors import NoNode, NotFolder
 
 TOP = 0
 LETTERS = "abcdefghijklmnopqrstuvwxyz"
@@ -75,6 +75,11 @@ def node_of(nodes, number):
     return nodes[number]
 
 
+def check_folder(nodes, number):
+    if number != TOP and node_of(nodes, number)[3] is not None:
+        raise NotFolder(f"the node {number} is a file")
+
+
 def path_up(nodes, number):
     names = []
     at = number
@@ -108,3 +113,17 @@ def below(tree, number):
 def walked(tree):
     nodes = by_number(tree)
     return sorted([(path_up(nodes, number), number) for number in nodes])
+
+
+def walked_nodes(tree):
+    nodes = by_number(tree)
+    return [(path, nodes[number]) for path, number in walked(tree)]
+
+
+def greatest_number(tree):
+    return max([node[0] for node in tree], default=0)
+
+
+def with_numbers(tree, numbers):
+    # The numbers tell of the top too: a tree that is put into a folder has this one in its stead.
+    return tuple(sorted([(numbers[node[0]], numbers[node[1]]) + node[2:] for node in tree]))
