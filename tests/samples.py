@@ -56,3 +56,23 @@ def chance_deeds(chance, tree, numbers, names, count):
             continue
         deeds.append(deed)
     return deeds
+
+
+def do_steps(ledger, steps):
+    """The ledger, behind these deeds and tags."""
+    for step in steps:
+        if step[0] == "tag":
+            ledger.tag(step[1])
+        else:
+            ledger.do(step)
+    return ledger
+
+
+def one_sign_otherwise(text, signs):
+    """All texts in which one sign of the text is left out, or one of the signs put in, or put in its stead."""
+    texts = []
+    for place in range(len(text) + 1):
+        texts.append(text[:place] + text[place + 1:])
+        texts += [text[:place] + sign + text[place:] for sign in signs]
+        texts += [text[:place] + sign + text[place + 1:] for sign in signs]
+    return texts

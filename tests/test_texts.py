@@ -2,7 +2,7 @@ import copy
 import random
 import unittest
 
-from samples import chance_tree, every_tree
+from samples import chance_tree, every_tree, one_sign_otherwise
 from treewatch.errors import NoText
 from treewatch.texts import read, written
 
@@ -171,13 +171,8 @@ class Read(unittest.TestCase):
 
     def test_one_sign_changed_left_out_or_put_in(self):
         text = "2 /a/\n5 /a/b/\n1 /a/b/d 7\n4 /ab 0\n"
-        signs = "\n -/~+_0159abzA."
-        for place in range(len(text) + 1):
-            others = [text[:place] + text[place + 1:]]
-            others += [text[:place] + sign + text[place:] for sign in signs]
-            others += [text[:place] + sign + text[place + 1:] for sign in signs]
-            for other in others:
-                self.is_a_writing_or_refused(other)
+        for other in one_sign_otherwise(text, "\n -/~+_0159abzA."):
+            self.is_a_writing_or_refused(other)
 
     def is_a_writing_or_refused(self, text):
         try:
